@@ -1,0 +1,1 @@
+"""Deadrules: style sheets for all documents of a grammar."""
