@@ -28,6 +28,11 @@ def are_names(values):
     return all([is_name(value) for value in values]) and len(set(values)) == len(values)
 
 
+def words_of(text):
+    """Return the list of what stands between blanks."""
+    return [word for word in text.split(" ") if word]
+
+
 def cut(text, letters, signs):
     """Cut a text into signs and the longest words of the letters.
 

@@ -127,6 +127,10 @@ class Document:
     def __eq__(self, other):
         return isinstance(other, Document) and self._text == other._text
 
+    def heads(self):
+        """Return the list of the tuples (depth, kind, marks) of all nodes in order."""
+        return list(self._rows)
+
     def kind(self, path):
         """Return the kind of a node."""
         return self._rows[self._place(path)][1]

@@ -1,6 +1,6 @@
 """Grammars: which documents there are [2]."""
 
-from deadrules.checks import are_names, is_between, is_name
+from deadrules.checks import are_names, is_between, is_name, words_of
 from deadrules.documents import Document
 from deadrules.errors import InvalidNumber, InvalidPart, LimitExceeded, ParseError
 from deadrules.listing import Listing
@@ -29,11 +29,6 @@ def parse_grammar(text):
     if len(lines) > MOST_KINDS:
         raise LimitExceeded(MOST_KINDS)
     return Grammar(text, lines)
-
-
-def words_of(text):
-    """Return the list of what stands between blanks."""
-    return [word for word in text.split(" ") if word]
 
 
 def read_line(text):
@@ -142,7 +137,7 @@ class Grammar:
         sizes = range(1, most + 1)
         if sum([listing.many(self.root, size) for size in sizes]) > MOST_LISTED:
             raise LimitExceeded(MOST_LISTED)
-        found = [Document(rows) for size in sizes for rows in listing.parts(self.root, size)]
+        found = [Document(rows) for size in sizes for rows in listing.all_parts(self.root, size)]
         return sorted(found, key=lambda document: (document.size, document.text))
 
     def _line(self, kind):

@@ -31,7 +31,7 @@ class Listing:
             self._part_counts[key] = rows * len(self._lines[kind].choices())
         return self._part_counts[key]
 
-    def parts(self, kind, size):
+    def all_parts(self, kind, size):
         """Return the list of the parts of a kind that have so many nodes."""
         key = (kind, size)
         if key not in self._parts:
@@ -74,7 +74,7 @@ class Listing:
             for width in range(1, size + 1):
                 if behind > 0 and self.many(name, width) * self._count_rows(kind, behind, size - width) > 0:
                     rows = self._list_rows(kind, behind, size - width)
-                    for part in self.parts(name, width):
+                    for part in self.all_parts(name, width):
                         below = moved(part, 1)
                         found.extend([below + row for row in rows])
         return found

@@ -27,6 +27,34 @@ class ExamplesTest(unittest.TestCase):
               'list(item.hot(link))', 'list(item.hot,item)', 'list(item.hot,item.hot)']])
         self.assertEqual(g.first_wrong(parse_document('list(item.new)')), (0,))
 
+    def test_selectors(self):
+        from deadrules.documents import parse_document
+        from deadrules.selectors import parse_selector
+        d = parse_document('list(item.hot(link),item,item)')
+        self.assertEqual(
+            [parse_selector(text).found(d)
+             for text in ['list > item:not(.hot)', 'item:has(> link) ~ *:last', ':nth(2,1)', 'list link']],
+            [[(1,), (2,)], [(2,)], [(), (0,), (0, 0), (2,)], [(0, 0)]])
+        self.assertEqual([parse_selector('*.hot>item:has( link )').text, parse_selector('a.b c:first').weight],
+                         ['.hot > item:has(link)', (2, 2)])
+
+    def test_styles(self):
+        from deadrules.documents import parse_document
+        from deadrules.sheets import parse_sheet
+        from deadrules.styles import styles, winners
+        s = parse_sheet('var tone\nhand size big\nown box none\nlist { tone: red; size: big }\n'
+                        'item.hot { box: $tone or blue }\nlayer 1 item { box: inherit; size!: small }')
+        d = parse_document('list(item.hot(link))')
+        self.assertEqual(
+            [styles(d, s), winners(d, s, (0,)), s.pieces()],
+            [[((), ('red', 'big', 'none')), ((0,), ('red', 'small', 'none')), ((0, 0), ('red', 'small', 'none'))],
+             (None, (2, 1), (2, 0)), [(0, 0), (0, 1), (1, 0), (2, 0), (2, 1)]])
+
+    def test_a_rule_of_a_kind_called_layer(self):
+        from deadrules.sheets import parse_sheet
+        s = parse_sheet('own p y\nlayer > a { p: x }')
+        self.assertEqual(s.rules, [(0, ('layer > a',), (('p', 'x', False),))])
+
     def test_readme(self):
         result = doctest.testfile(str(README), module_relative=False)
         self.assertEqual(result.failed, 0)

@@ -45,6 +45,15 @@ INTERFACE = {
     'grammars': {'parse_grammar': ['text'], 'Grammar': {
         'text': [], 'root': [], 'kinds': [], 'fits': ['kind', 'kinds'], 'first_wrong': ['document'], 'least': ['kind'],
         'documents': ['most']}},
+    'selectors': {'parse_selector': ['text'], 'Selector': {
+        'text': [], 'weight': [], 'found': ['document'], 'fits': ['document', 'path'], 'on': ['document'],
+        '__or__': ['other'], '__eq__': ['other']},
+        'Selection': {'texts': [], 'found': ['document'], 'on': ['document'], '__or__': ['other']},
+        'Found': {'__iter__': [], '__contains__': ['path']}},
+    'sheets': {'parse_sheet': ['text'], 'Sheet': {
+        'text': [], 'names': [], 'rules': [], 'pieces': [], 'only': ['pieces'], '__eq__': ['other']}},
+    'styles': {'styles': ['document', 'sheet'], 'winners': ['document', 'sheet', 'path'],
+               'matching': ['document', 'sheet', 'path']},
 }
 
 
