@@ -53,8 +53,10 @@ def completed(lines):
     found = {}
     for line in lines.values():
         for name in [line.name, *line.model.distinct()]:
-            if name not in found:
-                found[name] = lines.get(name, Line(name, [], [], read_model("")))
+            if name not in lines and name not in found:
+                found[name] = Line(name, [], [], read_model(""))
+            elif name not in found:
+                found[name] = lines[name]
     return found
 
 
@@ -148,12 +150,13 @@ class Grammar:
     def _least_sizes(self):
         """Return a dict with the least size for each kind that has a part of finite size."""
         sizes = {}
-        # A smallest part has no kind below itself: it is found in as many rounds as there are kinds.
-        for _ in self._kinds:
-            found = {}
-            for kind in self._kinds:
+        changed = True
+        while changed:
+            changed = False
+            # Mostly a kind stands before those below it: so the last ones come first.
+            for kind in reversed(self._kinds):
                 cost = self._lines[kind].model.cost(sizes)
-                if cost is not None:
-                    found[kind] = cost + 1
-            sizes = found
+                if cost is not None and sizes.get(kind) != cost + 1:
+                    sizes[kind] = cost + 1
+                    changed = True
         return sizes

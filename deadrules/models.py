@@ -16,9 +16,11 @@ MOST_BRACKETS = 12
 # The set of places that holds only the one before the row.
 START = 1
 
-# Parts of a model are tuples: whether the empty row is one of theirs, and the
-# sets of the places with which rows of theirs begin and end.
-NOTHING = (True, 0, 0)
+# Parts of a model are tuples: whether the empty row is one of theirs, the sets of
+# the places with which rows of theirs begin and end, and what they need: a name,
+# or a tuple of choices, one of which is needed. A choice is a tuple of the needs
+# of its parts, without those that can be empty; rows of parts have one choice.
+NOTHING = (True, 0, 0, ())
 
 
 def read_model(text):
@@ -57,7 +59,25 @@ def is_form(pieces):
 
 def places_in(places):
     """Return the list of the places in a set of them."""
-    return [at for at in range(MOST_NAMES + 1) if places >> at & 1]
+    found = []
+    left = places
+    while left > 0:
+        at = left.bit_length() - 1
+        found.append(at)
+        left = left - (1 << at)
+    return found
+
+
+def least_cost(needed, costs):
+    """Return the least sum of the costs of a name, or of all needs of a choice, or None."""
+    if isinstance(needed, str):
+        return costs.get(needed)
+    sums = []
+    for choice in needed:
+        found = [least_cost(need, costs) for need in choice]
+        if None not in found:
+            sums.append(sum(found))
+    return min(sums, default=None)
 
 
 class Builder:
@@ -84,46 +104,54 @@ class Builder:
                 choices[-1].append(self._repeated(choices[-1].pop(), piece))
             else:
                 choices[-1].append(self._named(piece))
-        empty, firsts, lasts = self._chosen(frames[0])
+        empty, firsts, lasts, needed = self._chosen(frames[0])
         self._follows[0] = firsts
         if empty:
             lasts = lasts | START
-        return Model(self._names, self._follows, lasts)
+        return Model(self._names, self._follows, lasts, needed)
 
     def _named(self, name):
         place = 1 << len(self._names)
         self._names.append(name)
         self._follows.append(0)
-        return (False, place, place)
+        return (False, place, place, name)
 
     def _chosen(self, choices):
-        empty = False
+        rows = [self._in_row(parts) for parts in choices]
         firsts = 0
         lasts = 0
-        for parts in choices:
-            row = NOTHING
-            for part in parts:
-                row = self._joined(row, part)
-            empty = empty or row[0]
+        for row in rows:
             firsts = firsts | row[1]
             lasts = lasts | row[2]
-        return (empty, firsts, lasts)
+        if True in [row[0] for row in rows]:
+            return (True, firsts, lasts, ((),))
+        return (False, firsts, lasts, tuple([row[3] for row in rows]))
 
-    def _joined(self, one, other):
-        self._link(one[2], other[1])
-        firsts = one[1]
-        lasts = other[2]
-        if one[0]:
-            firsts = firsts | other[1]
-        if other[0]:
-            lasts = lasts | one[2]
-        return (one[0] and other[0], firsts, lasts)
+    def _in_row(self, parts):
+        row = NOTHING
+        for part in parts:
+            row = self._joined(row, part)
+        return row
+
+    def _joined(self, row, part):
+        """Return the row with one more part."""
+        self._link(row[2], part[1])
+        firsts = row[1]
+        lasts = part[2]
+        needed = row[3]
+        if row[0]:
+            firsts = firsts | part[1]
+        if part[0]:
+            lasts = lasts | row[2]
+        else:
+            needed = (*needed, part[3])
+        return (row[0] and part[0], firsts, lasts, needed)
 
     def _repeated(self, part, sign):
-        empty, firsts, lasts = part
+        empty, firsts, lasts, needed = part
         if sign != "?":
             self._link(lasts, firsts)
-        return (empty or sign != "+", firsts, lasts)
+        return (empty or sign != "+", firsts, lasts, needed)
 
     def _link(self, lasts, firsts):
         for at in places_in(lasts):
@@ -133,10 +161,11 @@ class Builder:
 class Model:
     """The rows of kinds that a model allows; it never changes."""
 
-    def __init__(self, names, follows, lasts):
+    def __init__(self, names, follows, lasts, needed):
         self._names = tuple(names)
         self._follows = tuple(follows)
         self._lasts = lasts
+        self._needed = needed
         self._named = {}
         for at, name in enumerate(self._names):
             if at > 0:
@@ -171,14 +200,4 @@ class Model:
 
         The costs are a dict; a row with a name that is not in it has none.
         """
-        least = {0: 0}
-        for _ in self._names:
-            for at, follow in enumerate(self._follows):
-                if at not in least:
-                    continue
-                for to in places_in(follow):
-                    name = self._names[to]
-                    if name in costs:
-                        here = least[at] + costs[name]
-                        least[to] = min(here, least.get(to, here))
-        return min([least[at] for at in places_in(self._lasts) if at in least], default=None)
+        return least_cost(self._needed, costs)

@@ -1,4 +1,4 @@
-"""Grammars against a second way of reading models: as regular expressions."""
+"""Grammars against a second way of reading models: as the sets of all their short rows."""
 
 import itertools
 import random
@@ -9,39 +9,55 @@ from deadrules.documents import parse_document
 from deadrules.grammars import parse_grammar
 
 KINDS = ['a', 'b', 'c']
+LONGEST = 5
+
+
+def joined(ones, others):
+    """Return the rows that are one of each, as long as they are short."""
+    return {one + other for one in ones for other in others if len(one + other) <= LONGEST}
+
+
+def repeated(rows, sign):
+    """Return the rows behind a sign, or without one."""
+    if sign in ('', '?'):
+        return rows | {()} if sign else rows
+    found = {()} if sign == '*' else set()
+    more = rows
+    while not more <= found:
+        found = found | more
+        more = joined(found, rows)
+    return found
+
+
+def random_part(source, depth):
+    """Return the text and the rows of a name or of a model in brackets, with or without a sign behind it."""
+    name = source.choice(KINDS)
+    text, rows = name, {(name,)}
+    if depth > 0 and source.random() < 0.4:
+        text, rows = random_model(source, depth - 1)
+        text = f'({text})'
+    sign = source.choice(['', '', '', '?', '*', '+'])
+    return text + source.choice(['', ' ']) + sign, repeated(rows, sign)
 
 
 def random_model(source, depth):
-    choice = source.randrange(8) if depth > 0 else 0
-    if choice < 2:
-        return source.choice(KINDS)
-    if choice == 2:
-        return ''
-    if choice == 3:
-        return f'({random_model(source, depth - 1)})'
-    if choice == 4:
-        return f'({random_model(source, depth - 1)}){source.choice("?*+")}'
-    if choice == 5:
-        return source.choice(KINDS) + source.choice(['', ' ']) + source.choice('?*+')
-    sign = source.choice([' ', ' | ', '|'])
-    return random_model(source, depth - 1) + sign + random_model(source, depth - 1)
+    """Return the text and the rows of choices of rows of parts, some of them empty."""
+    texts, found = [], set()
+    for _ in range(source.choice([1, 1, 1, 2, 2, 3])):
+        parts = [random_part(source, depth) for _ in range(source.choice([0, 1, 1, 2, 2, 3]))]
+        texts.append(' '.join([text for text, _ in parts]))
+        rows = {()}
+        for _, more in parts:
+            rows = joined(rows, more)
+        found |= rows
+    return source.choice(['|', ' | ']).join(texts), found
 
 
 def limited_model(source):
     while True:
-        model = random_model(source, 4)
+        model, rows = random_model(source, 3)
         if len(re.findall('[a-z]+', model)) <= 12:
-            return model
-
-
-def expression(model):
-    """Return the regular expression of a model, in which each name has a comma behind it."""
-    text = re.sub('([a-z]+)', r'(?:\1,)', model.replace('(', '(?:'))
-    return re.compile(text.replace(' ', ''))
-
-
-def is_row(model, row):
-    return expression(model).fullmatch(''.join([f'{name},' for name in row])) is not None
+            return model, rows
 
 
 def trees(size):
@@ -69,14 +85,14 @@ def labelled(tree, heads):
 class RandomTest(unittest.TestCase):
     def test_rows_of_random_models(self):
         source = random.Random(3)
-        rows = [row for many in range(5) for row in itertools.product(KINDS, repeat=many)]
-        for _ in range(300):
-            model = limited_model(source)
+        rows = [row for many in range(LONGEST + 1) for row in itertools.product(KINDS, repeat=many)]
+        for _ in range(400):
+            model, wanted = limited_model(source)
             grammar = parse_grammar(f'a : {model}')
             kinds = grammar.kinds
             self.assertEqual(kinds, list(dict.fromkeys(['a', *re.findall('[a-z]+', model)])))
             for row in rows:
-                self.assertIs(grammar.fits('a', row), is_row(model, row), (model, row))
+                self.assertIs(grammar.fits('a', row), row in wanted, (model, row))
 
     def test_documents_of_random_grammars(self):
         source = random.Random(4)
@@ -85,7 +101,7 @@ class RandomTest(unittest.TestCase):
         documents = [parse_document(text) for text in everything if text.startswith('a')]
         for _ in range(25):
             models = {kind: limited_model(source) for kind in KINDS}
-            lines = [f'a : {models["a"]}', f'b m? : {models["b"]}', f'c n m? : {models["c"]}']
+            lines = [f'a : {models["a"][0]}', f'b m? : {models["b"][0]}', f'c n m? : {models["c"][0]}']
             grammar = parse_grammar('\n'.join(lines))
             found = [document for document in documents if self.first_wrong(models, document) is None]
             for document in documents[::7]:
@@ -99,15 +115,15 @@ class RandomTest(unittest.TestCase):
         marks = {'a': [()], 'b': [(), ('m',)], 'c': [('n',), ('m', 'n')]}
         for path in document:
             kind = document.kind(path)
-            row = [document.kind((*path, index)) for index in range(document.width(path))]
-            if document.marks(path) not in marks[kind] or not is_row(models[kind], row):
+            row = tuple(document.kind((*path, index)) for index in range(document.width(path)))
+            if document.marks(path) not in marks[kind] or row not in models[kind][1]:
                 return path
         return None
 
     def test_least_of_random_grammars(self):
         source = random.Random(5)
         for _ in range(200):
-            lines = [f'{kind} : {limited_model(source)}' for kind in KINDS]
+            lines = [f'{kind} : {limited_model(source)[0]}' for kind in KINDS]
             least = {kind: parse_grammar('\n'.join(lines)).least(kind) for kind in KINDS}
             for at, kind in enumerate(KINDS):
                 grammar = parse_grammar('\n'.join(lines[at:] + lines[:at]))
