@@ -73,7 +73,8 @@ def values_of(sheet):
     """Return a dict from each piece to the tuple of the index of its variable and its word, or None."""
     found = {}
     for at, rule in enumerate(sheet.blocks()):
-        for index, (_, value, _) in enumerate(rule.declarations):
+        for index, declaration in enumerate(rule.declarations):
+            value = declaration[1]
             if value.startswith("$"):
                 name, _, word = value[1:].partition(" or ")
                 found[(at, index)] = (sheet.names.index(name), word or None)

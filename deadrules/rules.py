@@ -78,7 +78,7 @@ def read_rule(text, properties):
     declarations = [read_declaration(part, properties) for part in body.split(";")]
     if not closing or rest.strip(" ") or None in rows or None in declarations:
         return None
-    names = [name for name, _, _ in declarations]
+    names = [declaration[0] for declaration in declarations]
     if len(set(names)) < len(names):
         return None
     return Rule(layer, rows, declarations)

@@ -22,7 +22,8 @@ class Tree:
         numbers = []
         # The last nodes of each depth on the way to the node.
         latest = []
-        for at, (depth, _, _) in enumerate(heads):
+        for at, head in enumerate(heads):
+            depth = head[0]
             before = latest[depth] if depth < len(latest) else -1
             latest = latest[:depth] + [at]
             self.parents.append(latest[depth - 1] if depth > 0 else -1)
