@@ -23,15 +23,26 @@ class Cascade:
         """Return the tuple of the pieces that win the properties, with None for those without one."""
         return tuple([first_matching(row, truths) for row in self._ranked])
 
+    def matching(self, at, truths):
+        """Return the list of the pieces of a property that match, by falling rank."""
+        found = {}
+        for number, piece in self._ranked[at]:
+            if truths[number]:
+                found[piece] = True
+        return list(found)
+
     def style(self, won, handed):
         """Return the style that the winning pieces give below a parent with the style `handed`."""
         found = []
         for at, piece in enumerate(won):
-            found.append(self._value(at, piece, handed[at], found))
+            found.append(self.worth(at, piece, handed[at], found))
         return tuple(found)
 
-    def _value(self, at, piece, handed, before):
-        """Return the value of a property behind those that have the values `before`."""
+    def worth(self, at, piece, handed, before):
+        """Return the value of a property if a piece wins, or None does.
+
+        `handed` is its value at the parent, `before` has those of the properties before it.
+        """
         if piece is not None:
             variable, word = self._values[piece]
             if word == INHERIT:

@@ -33,6 +33,17 @@ def words_of(text):
     return [word for word in text.split(" ") if word]
 
 
+def bits_of(numbers):
+    """Return the falling list of the numbers in a set of them that is kept as the bits of an integer."""
+    found = []
+    left = numbers
+    while left > 0:
+        at = left.bit_length() - 1
+        found.append(at)
+        left = left - (1 << at)
+    return found
+
+
 def cut(text, letters, signs):
     """Cut a text into signs and the longest words of the letters.
 

@@ -67,6 +67,12 @@ def part_takes(part, node):
     return not part_takes(detail, node)
 
 
+def is_of_place(part):
+    """Return whether a plain part asks for the place of a node, and not for its kind and marks."""
+    word, detail = part
+    return word in ("first", "last", "nth") or word == "not" and is_of_place(detail)
+
+
 def is_in_turn(number, step, start):
     """Return whether a number is step * n + start for an integer n from 0 on."""
     if step == 0:

@@ -111,6 +111,10 @@ class Grammar:
         """The list of all kinds in the order in which they first stand in the text."""
         return list(self._kinds)
 
+    def lines(self):
+        """Return a dict with the line of each kind, in the order of the kinds."""
+        return {name: self._lines[name] for name in self._lines}
+
     def fits(self, kind, kinds):
         """Return whether a list or tuple of names is a row of children of a kind."""
         return self._line(kind).model.allows(kinds)

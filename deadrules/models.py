@@ -6,7 +6,7 @@ bit with the number of a place tells whether it is in the set. So a row is read
 from left to right in one go, whatever stars stand inside of each other.
 """
 
-from deadrules.checks import LETTERS, cut, is_name
+from deadrules.checks import LETTERS, bits_of, cut, is_name
 
 REPEATS = ("?", "*", "+")
 SIGNS = ("(", ")", "|", "?", "*", "+")
@@ -55,17 +55,6 @@ def is_form(pieces):
             return False
         before = piece
     return depth == 0 and many <= MOST_NAMES
-
-
-def places_in(places):
-    """Return the list of the places in a set of them."""
-    found = []
-    left = places
-    while left > 0:
-        at = left.bit_length() - 1
-        found.append(at)
-        left = left - (1 << at)
-    return found
 
 
 def least_cost(needed, costs):
@@ -154,7 +143,7 @@ class Builder:
         return (empty or sign != "+", firsts, lasts, needed)
 
     def _link(self, lasts, firsts):
-        for at in places_in(lasts):
+        for at in bits_of(lasts):
             self._follows[at] = self._follows[at] | firsts
 
 
@@ -178,9 +167,22 @@ class Model:
     def step(self, places, name):
         """Return the set of the places behind a name; it is 0 if no row goes on with it."""
         reached = 0
-        for at in places_in(places):
+        for at in bits_of(places):
             reached = reached | self._follows[at]
         return reached & self._named.get(name, 0)
+
+    def back(self, places, name):
+        """Return the set of the places behind which a name can lead to one of the places."""
+        reached = places & self._named.get(name, 0)
+        found = 0
+        for at, follows in enumerate(self._follows):
+            if follows & reached > 0:
+                found = found | 1 << at
+        return found
+
+    def last_places(self):
+        """Return the set of the places at which a row can end."""
+        return self._lasts
 
     def can_end(self, places):
         """Return whether a row can end at one of the places."""

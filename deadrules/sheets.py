@@ -72,6 +72,10 @@ class Sheet:
         """Return the list of the rules."""
         return list(self._rules)
 
+    def has_lines_of(self, other):
+        """Return whether another sheet has the same lines of properties in the same order."""
+        return [line.written for line in self._properties] == [line.written for line in other._properties]
+
     def pieces(self):
         """Return the list of the tuples of the indexes of a rule and of one of its declarations."""
         return [(at, index) for at, rule in enumerate(self._rules) for index in range(len(rule.declarations))]
@@ -82,7 +86,7 @@ class Sheet:
             raise InvalidPiece(pieces)
         kept = []
         for piece in pieces:
-            if not self._has(piece) or piece in kept:
+            if not self.has_piece(piece) or piece in kept:
                 raise InvalidPiece(piece)
             kept.append(piece)
         rules = []
@@ -92,7 +96,7 @@ class Sheet:
                 rules.append(Rule(rule.layer, rule.rows, left))
         return Sheet(self._properties, rules)
 
-    def _has(self, piece):
+    def has_piece(self, piece):
         """Return whether a value is a piece of the sheet."""
         if not isinstance(piece, tuple) or len(piece) != 2:
             return False

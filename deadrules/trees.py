@@ -33,7 +33,7 @@ class Tree:
         for before in self.befores:
             if before >= 0:
                 lasts[before] = False
-        self._nodes = [(head[1], head[2], number, last) for head, number, last in zip(heads, numbers, lasts)]
+        self.nodes = [(head[1], head[2], number, last) for head, number, last in zip(heads, numbers, lasts)]
 
     def selected(self, row):
         """Return the lists of truths of a selector: whether a node fits it up to each compound."""
@@ -78,7 +78,7 @@ class Tree:
 
     def _fitting(self, compound):
         """Return the truths of a compound."""
-        truths = [compound.takes(node) for node in self._nodes] + [False]
+        truths = [compound.takes(node) for node in self.nodes] + [False]
         for row in compound.relatives:
             truths = both(truths, self.before(self.related(row)[0], row.joins[0]))
         return truths

@@ -5,6 +5,7 @@ from oracle import compound_text, many, part_text
 KINDS = ['a', 'b', 'c']
 MARKS = ['x', 'y']
 JOINS = [' ', '>', '+', '~']
+LETTERS = 'abcdefghijklmnopqrstuvwxyz'
 WORDS = ['red', 'blue', 'big2', '0', 'or', 'layer', 'a']
 
 
@@ -144,3 +145,54 @@ def loose_sheet(source, one):
     for _ in range(source.randrange(3)):
         lines.insert(source.randrange(len(lines) + 1), gap())
     return '\n'.join(lines)
+
+
+def model(source, kinds, deep=2):
+    """Return the text of a model of kinds, with brackets up to so many levels deep."""
+    choices = []
+    for _ in range(source.choice([1, 1, 1, 2])):
+        parts = []
+        for _ in range(source.choice([0, 1, 1, 2, 2])):
+            one = source.choice(kinds)
+            if deep > 1 and source.random() < 0.3:
+                one = '(' + model(source, kinds, deep - 1) + ')'
+            parts.append(one + source.choice(['', '', '', '?', '*', '+']))
+        choices.append(' '.join(parts))
+    return ' | '.join(choices)
+
+
+def grammar(source, kinds=KINDS, marks=MARKS):
+    """Return the lines of a grammar of up to so many kinds, the first one of them the root.
+
+    Mostly a model has only the kinds behind its own, so that there are finite documents.
+    """
+    many = source.randrange(1, len(kinds) + 1)
+    lines = []
+    for at, kind in enumerate(kinds[:many]):
+        words = [kind]
+        for mark in marks:
+            words += source.choice([[], [], [mark + '?'], [mark + '?'], [mark]])
+        below = list(kinds[at + 1:many]) or [kind]
+        if source.random() < 0.3:
+            below += source.sample(kinds[:many], 1)
+        while True:
+            text = model(source, below)
+            if sum(sign in LETTERS for sign in text) <= 12:
+                break
+        if at + 1 == many and source.random() < 0.7:
+            text = ''
+        lines.append(' '.join([*words, ':', text]))
+    return lines
+
+
+def has_relative(selectors):
+    return any(part[0] == 'has' for one in selectors for _, (_, parts) in one for part in parts)
+
+
+def small_sheet(source):
+    """Return a sheet of up to two properties and two rules of up to two compounds, mostly with a relative."""
+    while True:
+        lines = properties(source, 2)
+        found = (lines, [rule(source, lines) for _ in range(source.choice([1, 2, 2]))])
+        if source.random() < 0.2 or any(has_relative(selectors) for _, selectors, _ in found[1]):
+            return found

@@ -55,6 +55,31 @@ class ExamplesTest(unittest.TestCase):
         s = parse_sheet('own p y\nlayer > a { p: x }')
         self.assertEqual(s.rules, [(0, ('layer > a',), (('p', 'x', False),))])
 
+    def test_papers(self):
+        from deadrules.grammars import parse_grammar
+        from deadrules.sheets import parse_sheet
+        from deadrules.papers import paper
+        self.assertEqual(
+            paper(parse_grammar('a : b*'), parse_sheet('own p x\nb + b { p: y }')),
+            ([(('a', (), (), ()), 1), (('b', (), (), ()), 1)],
+             [((('a', (), (), ()), 1, True, (), (), (), (), (), (), (None,)), 0),
+              ((('b', (), (), ()), 1, False, (), (), (), (), (), (), (None,)), 2),
+              ((('b', (), (), ()), 1, True, (), (), (), (), (), (), (None,)), 1),
+              ((('b', (), (), ()), 2, False, (), (), (), (), ((0, 0),), (), (None,)), 3),
+              ((('b', (), (), ()), 2, True, (), (), (), (), ((0, 0),), (), (None,)), 2)]))
+
+    def test_all_documents_of_a_grammar(self):
+        from deadrules.grammars import parse_grammar
+        from deadrules.sheets import parse_sheet
+        from deadrules.answers import can_match, dead_rules
+        from deadrules.least import conditions, least_pieces, least_sheet
+        g = parse_grammar('list : item+\nitem hot? : (link | list)?')
+        s = parse_sheet('own box none\nlist > item { box: thin }\nitem { box: thin }\nlink item { box: red }')
+        self.assertEqual([can_match(g, s, 0)[0].size, can_match(g, s, 0)[1], dead_rules(g, s), conditions(g, s)],
+                         [2, (0,), [2], [(((0, 0), (1, 0)), ((0, 0), (1, 0)), False)]])
+        self.assertEqual(least_pieces(g, s), [(0, 0)])
+        self.assertEqual(least_sheet(g, s).rules, [(0, ('list > item',), (('box', 'thin', False),))])
+
     def test_readme(self):
         result = doctest.testfile(str(README), module_relative=False)
         self.assertEqual(result.failed, 0)

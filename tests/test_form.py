@@ -54,6 +54,16 @@ INTERFACE = {
         'text': [], 'names': [], 'rules': [], 'pieces': [], 'only': ['pieces'], '__eq__': ['other']}},
     'styles': {'styles': ['document', 'sheet'], 'winners': ['document', 'sheet', 'path'],
                'matching': ['document', 'sheet', 'path']},
+    'answers': {'can_match': ['grammar', 'sheet', 'rule'], 'can_meet': ['grammar', 'sheet', 'rule', 'other'],
+                'can_win': ['grammar', 'sheet', 'rule', 'name'],
+                'can_have': ['grammar', 'sheet', 'kind', 'name', 'value'],
+                'all_values': ['grammar', 'sheet', 'kind', 'name'], 'dead_rules': ['grammar', 'sheet'],
+                'idle_pieces': ['grammar', 'sheet'], 'died': ['old', 'new', 'sheet']},
+    'papers': {'state': ['sheet', 'document', 'path'], 'paper': ['grammar', 'sheet'],
+               'check_paper': ['grammar', 'sheet', 'value'], 'denied': ['grammar', 'sheet', 'value']},
+    'least': {'conditions': ['grammar', 'sheet'], 'least_pieces': ['grammar', 'sheet'],
+              'least_sheet': ['grammar', 'sheet'], 'needed': ['grammar', 'sheet', 'piece'],
+              'check_kept': ['grammar', 'sheet', 'pieces']},
 }
 
 
