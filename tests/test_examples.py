@@ -73,12 +73,26 @@ class ExamplesTest(unittest.TestCase):
         from deadrules.sheets import parse_sheet
         from deadrules.answers import can_match, dead_rules
         from deadrules.least import conditions, least_pieces, least_sheet
+        from deadrules.comparing import parting
+        from deadrules.shorter import shorter
         g = parse_grammar('list : item+\nitem hot? : (link | list)?')
         s = parse_sheet('own box none\nlist > item { box: thin }\nitem { box: thin }\nlink item { box: red }')
         self.assertEqual([can_match(g, s, 0)[0].size, can_match(g, s, 0)[1], dead_rules(g, s), conditions(g, s)],
                          [2, (0,), [2], [(((0, 0), (1, 0)), ((0, 0), (1, 0)), False)]])
-        self.assertEqual(least_pieces(g, s), [(0, 0)])
-        self.assertEqual(least_sheet(g, s).rules, [(0, ('list > item',), (('box', 'thin', False),))])
+        self.assertEqual(
+            [least_pieces(g, s), parting(g, s, least_sheet(g, s)), shorter(g, s).rules],
+            [[(0, 0)], None, [(0, ('item', 'item'), (('box', 'thin', False),)), (0, ('link > item',), (('box', 'red', False),))]])
+
+    def test_sittings(self):
+        from deadrules.documents import parse_document
+        from deadrules.grammars import parse_grammar
+        from deadrules.sheets import parse_sheet
+        from deadrules.sittings import Sitting, apply_edits
+        g = parse_grammar('list : item+\nitem hot? :')
+        s = Sitting(g, parse_sheet('own box none\nitem + item.hot { box: red }'), parse_document('list(item,item)'))
+        self.assertEqual(
+            [apply_edits(s, [('put', (), 0, 'item.hot'), ('mark', (2,), ['hot'])]), s.changed(), s.touched(), len(s)],
+            ['list(item.hot,item,item.hot)', [(2,)], [(0,), (1,), (2,)], 1])
 
     def test_readme(self):
         result = doctest.testfile(str(README), module_relative=False)

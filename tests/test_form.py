@@ -64,6 +64,15 @@ INTERFACE = {
     'least': {'conditions': ['grammar', 'sheet'], 'least_pieces': ['grammar', 'sheet'],
               'least_sheet': ['grammar', 'sheet'], 'needed': ['grammar', 'sheet', 'piece'],
               'check_kept': ['grammar', 'sheet', 'pieces']},
+    'comparing': {'parting': ['grammar', 'one', 'two'], 'parting_of': ['grammar', 'one', 'two', 'name']},
+    'shorter': {'moves': ['sheet'], 'shorter': ['grammar', 'sheet']},
+    'sittings': {'apply_edits': ['sitting', 'edits'], 'Sitting': {
+        '__init__': ['grammar', 'sheet', 'document'], 'grammar': [], 'sheet': [], 'document': [], 'edit': ['document'],
+        'restyle': ['sheet'], 'styles': [], 'changed': [], 'touched': [], 'undo': ['amount'], 'redo': ['amount'],
+        'draft': [], 'clone': [], '__eq__': ['other'], '__len__': []},
+        'Draft': {'put': ['path', 'index', 'text'], 'drop': ['path'], 'rename': ['path', 'kind'], 'mark': ['path', 'marks'],
+                  'commit': [], '__enter__': [], '__exit__': ['kind', 'value', 'trace']}},
+    'console': {'Console': {'__init__': ['sitting'], 'execute': ['command'], '__len__': []}},
 }
 
 
