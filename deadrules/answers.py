@@ -38,8 +38,6 @@ def can_have(grammar, sheet, kind, name, value):
     check_kind(grammar, kind)
     at = index_of(sheet, name)
     table = Table(grammar, [sheet])
-    if value is not None and not isinstance(value, str):
-        return None
     return answer([node for node in nodes_of(table, kind) if node.looks[0][at] == value])
 
 

@@ -28,7 +28,7 @@ class Checker:
             return None
         if not self._read_values(value[0]):
             return None
-        rows = Rows(self._lines, [key[0] for key in self._parts], self._notes)
+        rows = Rows(self._lines, {key[0]: True for key in self._parts}, self._notes)
         if not self._has_rows(rows):
             return None
         nodes = Nodes(rows, self._notes)

@@ -15,15 +15,14 @@ class Items:
     """The compounds of rows; what they ask does not change.
 
     `noted` is a dict from each join to the items that are noted by it: by the
-    join that many compounds behind that before the item. `firsts` and `lasts`
-    are the sets of the items that begin and end a row, `ends` the list of the
-    bits of the latter, and `everything` is the set of all items.
+    join that many compounds behind that before the item. `firsts` is the set of
+    the items that begin a row, `ends` the list of the bits of those that end one,
+    and `everything` the set of all items.
     """
 
     def __init__(self, rows, behind):
         self.noted = {join: 0 for join in JOINS}
         self.firsts = 0
-        self.lasts = 0
         self.ends = []
         self._spots = []
         self._numbers = {}
@@ -34,7 +33,6 @@ class Items:
             for index, compound in enumerate(row.compounds):
                 self._add(compound, (number, index), row.joins[index + behind:index + behind + 1])
             self.ends.append(len(self._spots) - 1)
-            self.lasts = self.lasts | 1 << self.ends[-1]
         self.everything = (1 << len(self._spots)) - 1
         self._of_heads = {}
         self._of_places = {}

@@ -47,10 +47,6 @@ class Notes:
         """Return the relatives that stand directly before one of the items."""
         return (items & self._inner) >> 1
 
-    def asks_siblings(self):
-        """Return whether selectors ask for siblings before a node."""
-        return self._before | self._earlier > 0
-
     def fits_at_most(self, head, low):
         """Return the relatives that a node fits as far as its kind, marks, and the nodes below it tell."""
         return self.relatives.of_head(head) & (self._free_below | self._ahead(low))

@@ -179,6 +179,22 @@ class KnownPapersTest(unittest.TestCase):
         states = paper(parse_grammar('a : b\nb x? : c'), parse_sheet('var p\n.x { p: nine }'))[1]
         self.assertEqual([one[9] for one, _ in states if one[0][0] == 'c'], [('nine',), (None,)])
 
+    def test_a_row_that_is_found_later_can_be_smaller(self):
+        # Two children of 3 and 4 nodes have both marks below them, but also one of 5.
+        grammar = parse_grammar('a : b*\nb : c | d | e\nc y : f\nd x : f f\ne x y : f f f')
+        values, states = paper(grammar, parse_sheet('own p n\na:has(.x):has(.y) { p: m }'))
+        self.assertEqual(dict(values)[('a', (), (), ((0, 0), (1, 0)))], 6)
+        # And of two ways to a child, with those above or beside it, the smaller one is found later, too.
+        grammar = parse_grammar('a : b c | d\nb : f f f\nd : c | c f\nc x? :')
+        states = dict(paper(grammar, parse_sheet('own p n\nz .x { p: m }'))[1])
+        self.assertEqual({states[one] for one in states if one[0][0] == 'c' and one[1] == 1}, {2, 3})
+
+    def test_no_child_has_the_number_nought(self):
+        grammar = parse_grammar('a : b*')
+        for digits, numbers in [('0,0', []), ('4,0', [4]), ('3,0', [3]), ('1,0', [1])]:
+            values = paper(grammar, parse_sheet(f'own p n\na:has(> b:nth({digits})) {{ p: m }}'))[0]
+            self.assertEqual([number - 1 for value, number in values if value[2]], numbers)
+
     def test_great_numbers(self):
         lines = [f'{kind} : ' + ' '.join([below] * 12) for kind, below in zip('abcdefg', 'bcdefgh')]
         grammar = parse_grammar('\n'.join(lines))

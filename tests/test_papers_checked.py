@@ -3,6 +3,7 @@
 import random
 import unittest
 
+import closed
 import drawn
 import oracle
 import search
@@ -145,10 +146,11 @@ class BentTest(unittest.TestCase):
 
     def test_other_parts_of_a_state(self):
         values, states = PAPER
-        full = {}
-        for at in range(3, 9):
-            full[at] = next(one for one, _ in states if one[at])
-        one = states[0][0]
+        # From the state of a node without children nothing follows, so just its form can be wrong.
+        leaves = [one for one, _ in states if one[0] in [('b', (), (), ()), ('b', ('x',), (), ()), ('c', (), (), ())]]
+        leaves = [one for one in leaves if self.holds_with(replaced(one, 9, ('other', 'words')))]
+        full = {at: next(one for one in leaves if one[at]) for at in range(3, 9)}
+        one = leaves[0]
         bent = [replaced(one, 1, place) for place in [0, -1, 4, 10 ** 29, True, None, '1', (1,), [], b'']]
         bent += [replaced(one, 2, last) for last in [0, 1, None, 'True', (), [True], 'x']]
         for at, found in full.items():
@@ -169,6 +171,10 @@ class BentTest(unittest.TestCase):
         leaf = next(one for one, _ in PAPER[1] if one[0][0] == 'c')
         for style in [('abcdefgh', '0'), ('9', None), (None, 'or')]:
             self.assertIs(check_paper(GRAMMAR, SHEET, (PAPER[0], [*PAPER[1], (replaced(leaf, 9, style), 50)])), True)
+
+    def holds_with(self, row):
+        """Return whether the paper holds with one state more."""
+        return check_paper(GRAMMAR, SHEET, (PAPER[0], [*PAPER[1], (row, 50)]))
 
     def test_roots_have_the_number_nought(self):
         grammar, sheet = parse_grammar('a : b'), parse_sheet('own p x')
@@ -307,6 +313,79 @@ class OtherPapersTest(unittest.TestCase):
             bent = [*more[:at], (row, number + 1), *more[at + 1:]]
             self.assertIs(check_paper(grammar, sheet, (values + extra, states + bent)), False)
         self.assertIs(check_paper(grammar, sheet, (values + [extra[0], (extra[1][0], 7)], states + more)), False)
+
+
+class DrawnRowsTest(unittest.TestCase):
+    """Papers with drawn rows put in and left out, beside the second checker of closed.py."""
+
+    def draw(self, source):
+        """Return the text of a drawn grammar whose nodes have up to three children, and its rows of marks."""
+        lines, marks = [], {}
+        for at, kind in enumerate('abc'):
+            words = source.choice([[], [], ['x?'], ['x']])
+            marks[kind] = {'': [()], 'x': [('x',)], 'x?': [(), ('x',)]}[''.join(words)]
+            model = source.choice(['', '_', '_?', '_ _', '_? _?', '_ | _', '(_ | _)? _?']) if kind != 'c' else ''
+            while '_' in model:
+                model = model.replace('_', source.choice('abc'[at + 1:] + 'abc'[at:] * (source.random() < 0.2)), 1)
+            lines.append(' '.join([kind, *words, ':', model]))
+        return '\n'.join(lines), marks
+
+    def items(self, source, sheet, join):
+        """Return drawn rows of items of relatives, and of selectors, that a join notes."""
+        for rows, noted in [(told.relatives(sheet), closed.noted_relatives), (told.selectors(sheet), closed.noted_selectors)]:
+            every = [(number, index) for number, row in enumerate(rows) for index in range(len(row))]
+            yield tuple(item for item in noted(sheet, every, join) if source.random() < 0.5)
+
+    def value(self, source, sheet, marks):
+        kind = source.choice('abc')
+        inner, deep = [next(self.items(source, sheet, join)) for join in '> ']
+        return (kind, source.choice(marks[kind]), inner, deep)
+
+    def state(self, source, sheet, value):
+        behind = [next(self.items(source, sheet, join)) for join in '+~']
+        before = [list(self.items(source, sheet, join))[1] for join in ' >+~']
+        place = source.randrange(1, sum(told.span(sheet)) + 1)
+        style = tuple(source.choice([None, 'n', 'red']) for _ in sheet[0])
+        return (value, place, source.random() < 0.5, *behind, *before, style)
+
+    def bend(self, source, sheet, marks, values, states):
+        """Change the rows of a paper at one place."""
+        rows = source.choice([values, states])
+        choice = source.randrange(4)
+        if choice < 2 and rows:
+            row, number = rows.pop(source.randrange(len(rows)))
+            if choice:
+                rows.append((row, max(0, number + source.choice([-2, -1, 1, 2]))))
+        elif rows is values or not values:
+            one = self.value(source, sheet, marks)
+            if one not in dict(values):
+                values.append((one, source.randrange(4)))
+        else:
+            one = self.state(source, sheet, source.choice(values)[0])
+            if one not in dict(states):
+                states.append((one, source.randrange(5)))
+
+    def test_drawn_rows(self):
+        source = random.Random(88)
+        counts = {True: 0, False: 0}
+        while sum(counts.values()) < 3000:
+            text, marks = self.draw(source)
+            grammar = parse_grammar(text)
+            form = drawn.small_sheet(source)
+            sheet = parse_sheet(oracle.sheet_text(form))
+            values, states = paper(grammar, sheet)
+            if len(values) > 20 or len(states) > 50:
+                continue
+            checker = closed.Closed(grammar, marks, form, 3)
+            self.assertTrue(checker.holds(values, states))
+            for _ in range(10):
+                bent = list(values), list(states)
+                for _ in range(source.choice([1, 1, 2, 3])):
+                    self.bend(source, form, marks, *bent)
+                wanted = all(row[0] in dict(bent[0]) for row, _ in bent[1]) and checker.holds(*bent)
+                self.assertIs(check_paper(grammar, sheet, bent), wanted, (grammar.text, sheet.text, bent))
+                counts[wanted] += 1
+        self.assertGreater(min(counts.values()), 500, counts)
 
 
 class AnswersInPapersTest(unittest.TestCase):

@@ -185,7 +185,11 @@ class KnownSittingsTest(unittest.TestCase):
         s.undo()
         self.assertEqual(s.changed(), [])
         s = self.sitting('list(item(item(link,link)))')
-        s.edit(parse_document('list(item(link(),item(link,link)))'.replace('()', '')))
+        s.edit(parse_document('list(item(link,item(link,link)))'))
+        self.assertEqual(s.changed(), [(0, 0)])
+        # Each one from the right has a style of its own.
+        s = self.sitting('list(item(item,item.hot,link))')
+        s.edit(parse_document('list(item(link,item,item.hot,link))'))
         self.assertEqual(s.changed(), [(0, 0)])
 
     def test_restyling(self):
