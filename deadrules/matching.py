@@ -10,8 +10,9 @@ def same_nodes(before, now):
         kinds = [now.kind((*path, index)) for index in range(now.width(path))]
         others = [before.kind((*old, index)) for index in range(before.width(old))]
         for index, other in same_children(kinds, others):
-            found[(*path, index)] = (*old, other)
-            left.append(((*path, index), (*old, other)))
+            child = (*path, index)
+            found[child] = (*old, other)
+            left.append((child, found[child]))
     return found
 
 

@@ -96,6 +96,12 @@ def parameters(function):
     return [one.arg for one in function.args.posonlyargs + function.args.args + function.args.kwonlyargs]
 
 
+def starred_indexes(tree):
+    """Return the indexes, of targets and of values, in which a star stands."""
+    indexes = [node.slice for node in ast.walk(tree) if isinstance(node, ast.Subscript)]
+    return [ast.unparse(one) for one in indexes if any(isinstance(node, ast.Starred) for node in ast.walk(one))]
+
+
 class FormTest(unittest.TestCase):
     def test_folder(self):
         self.assertTrue((PACKAGE / '__init__.py').exists())
@@ -176,6 +182,17 @@ class FormTest(unittest.TestCase):
                     self.assertNotIsInstance(node.value, (float, complex))
                     if isinstance(node.value, str):
                         self.assertNotIn('%', node.value)
+
+    def test_no_star_in_an_index(self):
+        for name, tree in trees().items():
+            self.assertEqual(starred_indexes(tree), [], name)
+
+    def test_starred_indexes_are_seen(self):
+        for text in ['d[(*a, b)]', 'd[(*a, b)] = 1', 'd[*a, b] += 1', 'd[1][[(*a,)]]', 'del d[(b, (*a,))]', 'd[f(*a)]',
+                     'x = [d[(*a, 1)] for a in b]', 'd[(*a, 1)].append(2)']:
+            self.assertEqual(len(starred_indexes(ast.parse(text))), 1, text)
+        for text in ['k = (*a, b)', 'x = [*d[a], *b[1:]]', 'first, *rest = d[a]', 'f(*d[a])', 'd[a] = (*b, *c)']:
+            self.assertEqual(starred_indexes(ast.parse(text)), [], text)
 
     def test_names(self):
         for name, tree in trees().items():
