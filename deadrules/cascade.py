@@ -8,12 +8,16 @@ from deadrules.rules import INHERIT
 
 
 class Cascade:
-    """The ranks and the values of the declarations of a sheet; it never changes."""
+    """The ranks and the values of the declarations of a sheet; it never changes.
 
-    def __init__(self, sheet):
-        self._lines = tuple(sheet.lines())
-        self._ranked = tuple(ranked(sheet))
-        self._values = values_of(sheet)
+    `used` has a truth for each selector: False for those that fit none of the nodes that are asked for.
+    """
+
+    def __init__(self, sheet, used):
+        self._lines = sheet.lines()
+        self._rules = sheet.blocks()
+        self._names = sheet.names
+        self._ranked = ranked(self._names, self._rules, used)
 
     def top(self):
         """Return the style that the root has for that of a parent."""
@@ -44,32 +48,47 @@ class Cascade:
         `handed` is its value at the parent, `before` has those of the properties before it.
         """
         if piece is not None:
-            variable, word = self._values[piece]
-            if word == INHERIT:
+            value = self._rules[piece[0]].declarations[piece[1]][1]
+            if value == INHERIT:
                 return handed
-            if variable is not None and before[variable] is not None:
-                return before[variable]
-            if word is not None:
+            if not value.startswith("$"):
+                return value
+            variable, _, word = value[1:].partition(" or ")
+            known = before[self._names.index(variable)]
+            if known is not None:
+                return known
+            if word:
                 return word
         line = self._lines[at]
         return line.default if line.form == "own" else handed
 
 
-def ranked(sheet):
+def kept_of(sheet):
+    """Return the tuple of the truths whether the values of the properties at a node can matter to its children."""
+    inherited = [name for rule in sheet.blocks() for name, value, _ in rule.declarations if value == INHERIT]
+    return tuple([line.form != "own" or line.name in inherited for line in sheet.lines()])
+
+
+def handed_on(style, kept):
+    """Return what a node hands to its children of its style: None for what none of them can take."""
+    return tuple([value if matters else None for value, matters in zip(style, kept)])
+
+
+def ranked(names, rules, used):
     """Return for each property the list of its pieces by falling rank.
 
-    A piece stands there once for each selector of its rule, as a tuple of the
-    number of the selector and the piece: the greatest weight comes first.
+    A piece stands there once for each selector of its rule that is used, as a tuple of
+    the number of the selector and the piece: the greatest weight comes first.
     """
-    names = sheet.names
-    ranks = [[] for _ in names]
-    first = 0
-    for at, rule in enumerate(sheet.blocks()):
-        for index, (name, _, strong) in enumerate(rule.declarations):
-            for number, weight in enumerate(rule.weights, start=first):
-                ranks[names.index(name)].append((strong, rule.layer, weight, at, index, number))
-        first += len(rule.weights)
-    return [[(rank[5], rank[3:5]) for rank in sorted(row, reverse=True)] for row in ranks]
+    ranks = {name: [] for name in names}
+    number = 0
+    for at, rule in enumerate(rules):
+        for weight in rule.weights:
+            if used[number]:
+                for index, (name, _, strong) in enumerate(rule.declarations):
+                    ranks[name].append((strong, rule.layer, weight, at, index, number))
+            number += 1
+    return [[(rank[5], rank[3:5]) for rank in sorted(row, reverse=True)] for row in ranks.values()]
 
 
 def first_matching(row, truths):
@@ -78,17 +97,3 @@ def first_matching(row, truths):
         if truths[number]:
             return piece
     return None
-
-
-def values_of(sheet):
-    """Return a dict from each piece to the tuple of the index of its variable and its word, or None."""
-    found = {}
-    for at, rule in enumerate(sheet.blocks()):
-        for index, declaration in enumerate(rule.declarations):
-            value = declaration[1]
-            if value.startswith("$"):
-                name, _, word = value[1:].partition(" or ")
-                found[(at, index)] = (sheet.names.index(name), word or None)
-            else:
-                found[(at, index)] = (None, value)
-    return found

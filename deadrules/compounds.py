@@ -34,12 +34,15 @@ class Compound:
 class Row:
     """Compounds, each with the join before it; it never changes.
 
-    The first join of a selector is empty.
+    The first join of a selector is empty. `steps_back` are the tuples of a join and the compound behind
+    it, the last ones first; `is_plain` tells whether a node tells by itself that it fits the row.
     """
 
     def __init__(self, joins, compounds):
         self.joins = tuple(joins)
         self.compounds = tuple(compounds)
+        self.steps_back = tuple(zip(joins, compounds))[::-1]
+        self.is_plain = len(compounds) == 1 and not compounds[0].relatives
         self.written = row_text(joins, compounds)
 
     def many(self):

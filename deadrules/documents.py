@@ -131,26 +131,35 @@ class Document:
         """Return the list of the tuples (depth, kind, marks) of all nodes in order."""
         return list(self._rows)
 
+    def node_at(self, at):
+        """Return the tuple (kind, marks, number, last) of the node with this index."""
+        _, kind, marks = self._rows[at]
+        path = self._paths[at]
+        if at == 0:
+            return (kind, marks, 1, True)
+        behind = (*path[:-1], path[-1] + 1)
+        return (kind, marks, path[-1] + 1, behind not in self._places)
+
     def kind(self, path):
         """Return the kind of a node."""
-        return self._rows[self._place(path)][1]
+        return self._rows[self.number_of(path)][1]
 
     def marks(self, path):
         """Return the sorted tuple of the marks of a node."""
-        return self._rows[self._place(path)][2]
+        return self._rows[self.number_of(path)][2]
 
     def width(self, path):
         """Return the number of the children of a node."""
-        return len(self._children(self._place(path)))
+        return len(self._children(self.number_of(path)))
 
     def part(self, path):
         """Return the document of a node and all below it."""
-        at = self._place(path)
+        at = self.number_of(path)
         return Document(moved(self._rows[at:self._end(at)], -self._rows[at][0]))
 
     def inserted(self, path, index, part):
         """Return the document with a part as the child with this index of a node."""
-        at = self._place(path)
+        at = self.number_of(path)
         children = self._children(at)
         if not is_between(index, 0, len(children)):
             raise InvalidNumber(index)
@@ -165,14 +174,14 @@ class Document:
 
     def removed(self, path):
         """Return the document without a node and all below it."""
-        at = self._place(path)
+        at = self.number_of(path)
         if at == 0:
             raise InvalidPath(path)
         return Document(self._rows[:at] + self._rows[self._end(at):])
 
     def renamed(self, path, kind):
         """Return the document with another kind of a node."""
-        at = self._place(path)
+        at = self.number_of(path)
         if not is_name(kind):
             raise InvalidPart(kind)
         depth, _, marks = self._rows[at]
@@ -180,7 +189,7 @@ class Document:
 
     def marked(self, path, marks):
         """Return the document with other marks of a node."""
-        at = self._place(path)
+        at = self.number_of(path)
         if not are_names(marks):
             raise InvalidPart(marks)
         depth, kind, _ = self._rows[at]
@@ -189,7 +198,8 @@ class Document:
     def _replaced(self, at, row):
         return Document((*self._rows[:at], row, *self._rows[at + 1:]))
 
-    def _place(self, path):
+    def number_of(self, path):
+        """Return the index of a node in the order of the paths."""
         if path not in self:
             raise InvalidPath(path)
         return self._places[path]

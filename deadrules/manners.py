@@ -1,7 +1,6 @@
 """The styles of a sheet, from the items of its selectors that nodes fit [5]."""
 
-from deadrules.cascade import Cascade
-from deadrules.rules import INHERIT
+from deadrules.cascade import Cascade, handed_on, kept_of
 
 
 class Manner:
@@ -11,7 +10,7 @@ class Manner:
     """
 
     def __init__(self, sheet, ends):
-        self._cascade = Cascade(sheet)
+        self._cascade = Cascade(sheet, [True for _ in ends])
         self._ends = tuple(ends)
         self._whole = sum([1 << bit for bit in ends])
         self._matches = matches_of(sheet, ends)
@@ -68,7 +67,7 @@ class Manner:
 
     def handed(self, style):
         """Return what a node hands to its children of its style: None for what none of them can take."""
-        return tuple([value if kept else None for value, kept in zip(style, self._kept)])
+        return handed_on(style, self._kept)
 
     def top(self):
         """Return what is handed to a root."""
@@ -84,9 +83,3 @@ def matches_of(sheet, ends):
         found.append(sum([1 << bit for bit in ends[first:behind]]))
         first = behind
     return found
-
-
-def kept_of(sheet):
-    """Return the tuple of the truths whether the values of the properties at a node can matter to its children."""
-    inherited = [name for rule in sheet.blocks() for name, value, _ in rule.declarations if value == INHERIT]
-    return tuple([line.form != "own" or line.name in inherited for line in sheet.lines()])

@@ -1,18 +1,16 @@
 """Papers: what can occur in documents of a grammar, as far as a sheet can tell [7]."""
 
 from deadrules.checking import Checker
-from deadrules.errors import InvalidPaper, InvalidPath
+from deadrules.errors import InvalidPaper
 from deadrules.notes import Notes
+from deadrules.surveys import state_at
 from deadrules.tables import Table
-from deadrules.views import Survey, state_told, value_told
+from deadrules.views import state_told, value_told
 
 
 def state(sheet, document, path):
     """Return the state of a node of a document."""
-    if path not in document:
-        raise InvalidPath(path)
-    notes = Notes([sheet])
-    return state_told(notes, Survey(notes, document).views[list(document).index(path)])
+    return state_at(sheet, document, document.number_of(path))
 
 
 def paper(grammar, sheet):

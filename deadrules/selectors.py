@@ -2,9 +2,8 @@
 
 from deadrules.compounds import weight_of
 from deadrules.documents import is_path
-from deadrules.errors import InvalidPath
 from deadrules.reading import read_row
-from deadrules.trees import Tree
+from deadrules.trees import Tree, truths_at
 
 
 def parse_selector(text):
@@ -15,8 +14,10 @@ def parse_selector(text):
 def found_by(rows, document):
     """Return the list of the paths of the nodes that fit one of the rows of compounds."""
     tree = Tree(document)
-    truths = [tree.selected(row)[-1] for row in rows]
-    return [path for at, path in enumerate(document) if any([fits[at] for fits in truths])]
+    nodes = 0
+    for row in rows:
+        nodes = nodes | tree.selected(row, tree.everything)[-1]
+    return [path for path, node in zip(document, tree.bits) if nodes & node]
 
 
 class Selector:
@@ -49,9 +50,7 @@ class Selector:
 
     def fits(self, document, path):
         """Return whether a node fits."""
-        if path not in document:
-            raise InvalidPath(path)
-        return path in self.found(document)
+        return truths_at(document, document.number_of(path), self._rows)[0]
 
     def on(self, document):
         """Return what the selector finds in a document."""

@@ -72,6 +72,10 @@ class Sheet:
         """Return the list of the rules."""
         return list(self._rules)
 
+    def selector_rows(self):
+        """Return the list of the rows of compounds of all selectors, in the order of the rules."""
+        return [row for rule in self._rules for row in rule.rows]
+
     def has_lines_of(self, other):
         """Return whether another sheet has the same lines of properties in the same order."""
         return [line.written for line in self._properties] == [line.written for line in other._properties]

@@ -4,9 +4,9 @@ from deadrules.checks import is_between, is_integer
 from deadrules.documents import Document, parse_document
 from deadrules.errors import DraftClosed, InvalidDocument, InvalidNumber, InvalidPart, InvalidSheets, NothingToUndo
 from deadrules.matching import same_nodes
-from deadrules.notes import Notes
 from deadrules.sheets import Sheet
-from deadrules.views import Survey
+from deadrules.styles import matching_by_path, styles_by_path
+from deadrules.surveys import all_states
 
 # The calls of a draft that an edit can tell, and how many arguments they have.
 CALLS = {"put": 3, "drop": 1, "rename": 2, "mark": 2}
@@ -110,15 +110,14 @@ class Sitting:
 
     def styles(self):
         """Return the list of the tuples of the path and the style of all nodes."""
-        looks = Survey(Notes([self._sheet]), self._document).looks
-        return [(path, looks[at][0]) for at, path in enumerate(self._document)]
+        return list(styles_by_path(self._document, self._sheet).items())
 
     def changed(self):
         """Return the list of the paths of the nodes that are new or have another style than before."""
         if self._before is None:
             return list(self._document)
         sheet, document = self._before
-        return self._unlike(styles_by_path(sheet, document), styles_by_path(self._sheet, self._document))
+        return self._unlike(styles_by_path(document, sheet), styles_by_path(self._document, self._sheet))
 
     def touched(self):
         """Return the list of the paths of the nodes that are new, or of which the sheets tell something else."""
@@ -126,7 +125,7 @@ class Sitting:
             return list(self._document)
         sheet, document = self._before
         if sheet == self._sheet:
-            return self._unlike(views_by_path(sheet, document), views_by_path(sheet, self._document))
+            return self._unlike(states_by_path(sheet, document), states_by_path(sheet, self._document))
         return self._unlike(rules_by_path(sheet, document), rules_by_path(self._sheet, self._document))
 
     def draft(self):
@@ -169,24 +168,16 @@ def check_amount(amount, steps):
         raise NothingToUndo(amount)
 
 
-def styles_by_path(sheet, document):
-    """Return a dict with the styles of all nodes."""
-    looks = Survey(Notes([sheet]), document).looks
-    return {path: looks[at][0] for at, path in enumerate(document)}
-
-
-def views_by_path(sheet, document):
-    """Return a dict with what tells the states of all nodes."""
-    views = Survey(Notes([sheet]), document).views
-    return {path: views[at] for at, path in enumerate(document)}
+def states_by_path(sheet, document):
+    """Return a dict with the states of all nodes."""
+    return dict(zip(document, all_states(sheet, document)))
 
 
 def rules_by_path(sheet, document):
     """Return a dict with the lists of the rules that match the nodes."""
-    notes = Notes([sheet])
-    fitted = Survey(notes, document).fitted
     rules = sheet.rules
-    return {path: [rules[rule] for rule in notes.manners[0].matching(fitted[at])] for at, path in enumerate(document)}
+    found = matching_by_path(document, sheet)
+    return {path: [rules[rule] for rule in found[path]] for path in found}
 
 
 class Draft:

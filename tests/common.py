@@ -1,5 +1,7 @@
 """Values and helpers that several tests use."""
 
+import sys
+
 NO_STRINGS = [None, True, False, 0, 1, -1, 10 ** 29, [], ['a'], (), ('a',), {}, {'a': 1}, b'', b'a', set(), {'a'}]
 
 NO_PATHS = [None, True, False, 0, -1, 'a', '', b'', [], [0], {}, {0: 0}, set(), (None,), ('0',), ([],), ((),), ((0,),),
@@ -21,3 +23,19 @@ def raised(kind, call, *arguments, **named):
             raise AssertionError(f'{error!r} is of a subclass of {kind}')
         return error
     raise AssertionError(f'{call} returned {result!r}, not {kind}')
+
+
+def calls(work):
+    """Return how many calls are made; a count does not depend on the machine, as seconds do."""
+    made = [0]
+
+    def count(frame, event, detail):
+        made[0] += event in ('call', 'c_call')
+
+    before = sys.getprofile()
+    sys.setprofile(count)
+    try:
+        work()
+    finally:
+        sys.setprofile(before)
+    return made[0]

@@ -88,6 +88,23 @@ def spoil(value):
         value.clear()
 
 
+def inside(value):
+    """Return all that a value is made of, down to its attributes."""
+    if isinstance(value, (list, tuple)):
+        return [value.__class__, *map(inside, value)]
+    if isinstance(value, dict):
+        return [dict, *[(inside(key), inside(one)) for key, one in value.items()]]
+    return [value.__class__, inside(vars(value))] if hasattr(value, '__dict__') else value
+
+
+def made_anew(value):
+    """Return a document, grammar or sheet as it is directly after it was read; other values as they are."""
+    for kind, read in [(documents.Document, parse_document), (grammars.Grammar, parse_grammar), (sheets.Sheet, parse_sheet)]:
+        if isinstance(value, kind):
+            return read(value.text)
+    return value
+
+
 class CallsTest(unittest.TestCase):
     def test_by_position_and_by_name(self):
         for call, arguments in CALLS:
@@ -134,10 +151,28 @@ class CallsTest(unittest.TestCase):
 
     def test_the_same_again(self):
         for call, arguments in CALLS:
-            fresh = {name: parse_grammar(value.text) if isinstance(value, grammars.Grammar) else value
-                     for name, value in arguments.items()}
-            fresh = {name: parse_sheet(value.text) if isinstance(value, sheets.Sheet) else value for name, value in fresh.items()}
+            fresh = {name: made_anew(value) for name, value in arguments.items()}
             self.assertEqual(written(call(**fresh)), written(call(**arguments)), call)
+
+    def test_objects_stay_as_they_are(self):
+        for call, arguments in CALLS:
+            fresh = {name: made_anew(value) for name, value in arguments.items()}
+            before = inside(fresh)
+            call(**fresh)
+            self.assertEqual(inside(fresh), before, call)
+
+    def test_objects_stay_as_they_are_when_each_node_is_asked_for(self):
+        document, sheet, selector = made_anew(DOCUMENT), made_anew(SHEET), parse_selector('a:has(> .x) > b + b')
+        selection = selector | parse_selector('b')
+        before = inside([document, sheet, selector, selection])
+        for path in [*document, *document]:
+            papers.state(sheet, document, path)
+            styles.matching(document, sheet, path)
+            styles.winners(document, sheet, path)
+            styles.styles(document, sheet)
+            selector.fits(document, path)
+            selection.found(document)
+        self.assertEqual(inside([document, sheet, selector, selection]), before)
 
 
 class SittingCallsTest(unittest.TestCase):

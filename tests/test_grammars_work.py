@@ -1,29 +1,13 @@
 """Reading many grammars: the answers, and how much is done for one of them."""
 
 import itertools
-import sys
 import unittest
 
+from common import calls
 from deadrules.grammars import parse_grammar
 
 KINDS = 'abcdefgh'
 CHAIN = '\n'.join(f'{kind} : ' + ' '.join([below] * 12) for kind, below in itertools.pairwise(KINDS))
-
-
-def calls(work):
-    """Return how many calls are made; a count does not depend on the machine, as seconds do."""
-    made = [0]
-
-    def count(frame, event, detail):
-        made[0] += event in ('call', 'c_call')
-
-    before = sys.getprofile()
-    sys.setprofile(count)
-    try:
-        work()
-    finally:
-        sys.setprofile(before)
-    return made[0]
 
 
 class WorkTest(unittest.TestCase):
